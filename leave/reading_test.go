@@ -219,9 +219,10 @@ func TestAllTransitions(t *testing.T) {
 	}
 }
 
-// All charts of up to five states, of each Kind, with all transitions that may
-// be, all sets of their states, with others or without, all pairs of transitions,
-// and all sets that histories may have.
+// All charts of up to five states, of each Kind, each with one Initial, with the
+// transitions of mayBe, and of charts of each 40 of these: all sets of their states
+// (of five states a quarter of them), with bits of others, all pairs of
+// transitions with some set, and all sets that histories may have.
 
 func TestAllSmallCharts(t *testing.T) {
 	charts, trans, m := 0, 0, maker{x: 5}
